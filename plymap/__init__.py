@@ -1,0 +1,1 @@
+"""Plymap: exact areas laid over one another."""
