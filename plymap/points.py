@@ -33,6 +33,10 @@ def y_of(p):
     return fraction(p[1], p[2])
 
 
+def is_left_of(p, q):
+    return p[0] * q[2] < q[0] * p[2]
+
+
 def is_ahead(p, q):
     here = p[0] * q[2]
     there = q[0] * p[2]
@@ -62,6 +66,10 @@ def in_order(points):
             halves.append(rows[-1])
         rows = halves
     return rows[0] if rows else []
+
+
+def ranks_of(points):
+    return dict([(p, rank) for rank, p in enumerate(in_order(points))])
 
 
 def middle_of(p, q):

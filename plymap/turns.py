@@ -10,14 +10,17 @@ def line_through(p, q):
     return (p[1] * q[2] - p[2] * q[1], p[2] * q[0] - p[0] * q[2], p[0] * q[1] - p[1] * q[0])
 
 
-def turn(p, q, r):
-    line = line_through(p, q)
+def turn_from(line, r):
     lean = line[0] * r[0] + line[1] * r[1] + line[2] * r[2]
     if lean > 0:
         return 1
     if lean < 0:
         return -1
     return 0
+
+
+def turn(p, q, r):
+    return turn_from(line_through(p, q), r)
 
 
 def twice_of(p, q):

@@ -58,6 +58,16 @@ def dots(text):
     return [at(*word.split(",")) for word in text.split()]
 
 
+def pieces_by(text):
+    """Pieces written as 0,0 1,1 1 -2; ..: two ends and the passes."""
+    pieces = []
+    for part in text.split(";"):
+        words = part.split()
+        a, b = dots(" ".join(words[:2]))
+        pieces.append((a, b, tuple([int(word) for word in words[2:]])))
+    return pieces
+
+
 def lean(p, q, r):
     (xp, yp), (xq, yq), (xr, yr) = place(p), place(q), place(r)
     number = (xq - xp) * (yr - yp) - (yq - yp) * (xr - xp)
@@ -99,3 +109,159 @@ def some_point(chance, figures=1):
 
 def chance_of(seed):
     return random.Random(seed)
+
+
+def goes_under(u, v, p):
+    """1, -1 or 0, by the words of the rule and by heights."""
+    (xu, yu), (xv, yv), (x, y) = place(u), place(v), place(p)
+    if xu == xv or not min(xu, xv) <= x < max(xu, xv):
+        return 0
+    if yu + (x - xu) * (yv - yu) / (xv - xu) >= y:
+        return 0
+    return 1 if xu < xv else -1
+
+
+def rounds_by_rule(rings, p):
+    return sum([goes_under(u, v, p) for u, v in ring_sides(rings)])
+
+
+def rounds_of_strokes(many, strokes, p):
+    rounds = [0] * many
+    for u, v, passes in strokes:
+        way = goes_under(u, v, p)
+        if way:
+            rounds = [number + way * passed for number, passed in zip(rounds, passes)]
+    return tuple(rounds)
+
+
+def shared_by(a, b, c, d):
+    """What two sides share, by where along the first one the second one is met."""
+    (xa, ya), (xb, yb), (xc, yc), (xd, yd) = place(a), place(b), place(c), place(d)
+    ux, uy, vx, vy = xb - xa, yb - ya, xd - xc, yd - yc
+    slant = ux * vy - uy * vx
+    if slant != 0:
+        t = ((xc - xa) * vy - (yc - ya) * vx) / slant
+        s = ((xc - xa) * uy - (yc - ya) * ux) / slant
+        return (at(xa + t * ux, ya + t * uy),) if 0 <= t <= 1 and 0 <= s <= 1 else ()
+    if (xc - xa) * uy != (yc - ya) * ux:
+        return ()
+    low = max(min(place(a), place(b)), min(place(c), place(d)))
+    high = min(max(place(a), place(b)), max(place(c), place(d)))
+    if low > high:
+        return ()
+    return tuple([at(*low)] + ([at(*high)] if low < high else []))
+
+
+def spots_by(strokes):
+    found = {place(end) for stroke in strokes for end in stroke[:2]}
+    for k, one in enumerate(strokes):
+        for other in strokes[k + 1:]:
+            found.update([place(p) for p in shared_by(one[0], one[1], other[0], other[1])])
+    return [at(*spot) for spot in sorted(found)]
+
+
+def plan_by(many, strokes):
+    """The plan of strokes, made word by word: every stroke against every spot, one pair of pieces joined at a time."""
+    spots = spots_by(strokes)
+    pieces = {}
+    for p, q, passes in strokes:
+        row = [z for z in spots if is_on(z, p, q)]
+        for u, v in zip(row, row[1:]):
+            ahead = 1 if place(p) < place(q) else -1
+            old = pieces.get((u, v), [0] * many)
+            pieces[(u, v)] = [number + ahead * passed for number, passed in zip(old, passes)]
+    pieces = {ends: passes for ends, passes in pieces.items() if any(passes)}
+    while True:
+        pair = straight_pair(pieces)
+        if pair is None:
+            break
+        (one, other), (low, high) = pair
+        passes = pieces.pop(one)
+        pieces.pop(other)
+        pieces[(low, high)] = passes
+    row = sorted(pieces, key=lambda ends: (place(ends[0]), place(ends[1])))
+    return (many, [(a, b, tuple(pieces[(a, b)])) for a, b in row])
+
+
+def straight_pair(pieces):
+    at_end = {}
+    for ends in pieces:
+        for end in ends:
+            at_end.setdefault(end, []).append(ends)
+    for z, met in at_end.items():
+        if len(met) == 2:
+            far = [ends[0] if ends[1] == z else ends[1] for ends in met]
+            if far[0] != far[1] and is_on(z, far[0], far[1]):
+                return met, sorted(far, key=place)
+    return None
+
+
+def faults_of(plan):
+    """What of the words on plans does not hold of a tuple (many, pieces) of the right kinds."""
+    many, pieces = plan
+    faults = []
+    for a, b, passes in pieces:
+        if place(a) >= place(b) or len(passes) != many or not any(passes):
+            faults.append(("piece", a, b, passes))
+    if faults:
+        return faults
+    ends = [(place(a), place(b)) for a, b, passes in pieces]
+    if ends != sorted(set(ends)):
+        faults.append(("row",))
+    for k, (a, b, passes) in enumerate(pieces):
+        for c, d, others in pieces[k + 1:]:
+            if place(c)[0] > place(b)[0]:
+                break
+            shared = shared_by(a, b, c, d)
+            if len(shared) > 1 or (shared and (shared[0] not in (a, b) or shared[0] not in (c, d))):
+                faults.append(("shared", a, b, c, d))
+    for z in {end for piece in pieces for end in piece[:2]}:
+        for layer in range(many):
+            if sum([(a == z) * passes[layer] - (b == z) * passes[layer] for a, b, passes in pieces]) != 0:
+                faults.append(("open", z))
+    if straight_pair([piece[:2] for piece in pieces]) is not None:
+        faults.append(("straight",))
+    return faults
+
+
+def between_all(numbers):
+    """One number below all, each number, one between each and the next, one above all."""
+    row = sorted(set(numbers))
+    if not row:
+        return [Fraction(0)]
+    found = [row[0] - 1]
+    for one, other in zip(row, row[1:] + [row[-1] + 2]):
+        found.extend([one, (one + other) / 2])
+    return found
+
+
+def samples(sides, step=1):
+    """Points of all sorts: in each part of the plane that sides part off, on sides, on and straight above corners."""
+    found = []
+    spots = spots_by(sides)
+    for x in between_all([place(p)[0] for p in spots])[::step]:
+        heights = [place(p)[1] for p in spots if place(p)[0] == x]
+        for side in sides:
+            (xu, yu), (xv, yv) = place(side[0]), place(side[1])
+            if xu != xv and min(xu, xv) <= x <= max(xu, xv):
+                heights.append(yu + (x - xu) * (yv - yu) / (xv - xu))
+        found.extend([at(x, y) for y in between_all(heights)])
+    return found
+
+
+def grid_ring(chance, most=4, size=4, bottoms=(1, 1, 1, 2, 3)):
+    """A ring on few places, so that sides overlap, touch and come back."""
+    while True:
+        ring = []
+        for number in range(chance.randrange(3, most + 1)):
+            bottom = chance.choice(bottoms)
+            ring.append(point_by(chance.randrange(size * bottom), chance.randrange(size * bottom), bottom))
+        if all([ring[k] != ring[k - 1] for k in range(len(ring))]):
+            return ring
+
+
+def star(middle, wide, tall, step, many=12):
+    """A ring through corners of a round, always step corners on, so that its sides cross one another."""
+    rim = [(4, 0), (3, 2), (2, 3), (0, 4), (-2, 3), (-3, 2), (-4, 0), (-3, -2), (-2, -3), (0, -4), (2, -3), (3, -2)]
+    return [at(middle[0] + wide * rim[k * step % 12][0], middle[1] + tall * rim[k * step % 12][1])
+            for k in range(many)]
