@@ -1,6 +1,7 @@
 """Points: tuples (a, b, c) of whole numbers in lowest terms, at x = a / c and y = b / c, c 1 or more."""
 
 from plymap.errors import NoPoint
+from plymap.orders import ordered
 from plymap.ratios import divisor_of, fraction, is_whole
 
 
@@ -45,27 +46,8 @@ def is_ahead(p, q):
     return p[1] * q[2] < q[1] * p[2]
 
 
-def merged(one, other):
-    row = []
-    at = 0
-    for q in other:
-        while at < len(one) and is_ahead(one[at], q):
-            row.append(one[at])
-            at = at + 1
-        row.append(q)
-    row.extend(one[at:])
-    return row
-
-
-# The order of points is no order of tuples, so rows of points in order are merged two by two.
 def in_order(points):
-    rows = [[p] for p in dict([(p, True) for p in points])]
-    while len(rows) > 1:
-        halves = [merged(one, other) for one, other in zip(rows[0::2], rows[1::2])]
-        if len(rows) % 2 == 1:
-            halves.append(rows[-1])
-        rows = halves
-    return rows[0] if rows else []
+    return ordered(list(dict([(p, True) for p in points])), is_ahead)
 
 
 def ranks_of(points):

@@ -53,6 +53,11 @@ def times(one, other):
     return fraction(one[0] * other[0], one[1] * other[1])
 
 
+# In lowest terms a top is even only where its bottom is odd, so nothing is left to cut down.
+def half_of(one):
+    return (one[0] // 2, one[1]) if one[0] % 2 == 0 else (one[0], 2 * one[1])
+
+
 def is_below(one, other):
     return one[0] * other[1] < other[0] * one[1]
 

@@ -1,6 +1,6 @@
 """Turns, round sums, and what lies on a side."""
 
-from plymap.points import is_ahead
+from plymap.points import is_ahead, point_of, x_of
 from plymap.ratios import fraction, total_of
 
 
@@ -43,3 +43,9 @@ def lies_on(p, a, b):
 def height_at(a, b, x):
     line = line_through(a, b)
     return fraction(-(line[0] * x[0] + line[2] * x[1]), line[1] * x[1])
+
+
+# The point of the straight line through a and b that lies straight above or below p, or is p.
+def point_over(a, b, p):
+    x = x_of(p)
+    return point_of(x, height_at(a, b, x))

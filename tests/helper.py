@@ -1,8 +1,10 @@
 """What the tests share: odd things to hand in, and the plane reckoned once more with Python's own fractions."""
 
+import bisect
 import random
 from fractions import Fraction
 
+from plymap.plans import plan_of
 from plymap.points import point_by, point_of
 
 
@@ -265,3 +267,143 @@ def star(middle, wide, tall, step, many=12):
     rim = [(4, 0), (3, 2), (2, 3), (0, 4), (-2, 3), (-3, 2), (-4, 0), (-3, -2), (-2, -3), (0, -4), (2, -3), (3, -2)]
     return [at(middle[0] + wide * rim[k * step % 12][0], middle[1] + tall * rim[k * step % 12][1])
             for k in range(many)]
+
+
+FAR = 10 ** 12
+FINE = 10 ** 6
+SQUARE = dots("0,0 4,0 4,4 0,4")
+FORMS = {
+    "square": [SQUARE],
+    "turned about": [SQUARE[::-1]],
+    "twice round": [SQUARE + SQUARE],
+    "bow": [dots("0,0 2,2 2,0 0,2")],
+    "there and back": [dots("0,0 3,1 6,2")],
+    "spike": [dots("0,0 4,0 4,4 7,7 4,4 0,4")],
+    "spike within": [dots("0,0 4,0 4,4 2,2 4,4 0,4")],
+    "hole": [SQUARE, dots("1,1 1,3 3,3 3,1")],
+    "within": [SQUARE, dots("1,1 3,1 3,3 1,3")],
+    "side by side": [SQUARE, dots("4,0 8,0 8,4 4,4")],
+    "partly side by side": [SQUARE, dots("4,1 8,1 8,3 4,3")],
+    "corner on a side": [SQUARE, dots("4,2 6,1 6,3")],
+    "corner on a corner": [SQUARE, dots("4,4 6,4 6,6")],
+    "own corner again": [dots("0,0 2,0 1,1 2,2 0,2 1,1")],
+    "star": [star((0, 0), 1, 1, 5)],
+    "many through one point": [dots("-2,-2 2,2 2,-2 -2,2"), dots("0,-3 0,3 3,0 -3,0")],
+    "overlap on a slant": [dots("0,0 6,2 0,6"), dots("3,1 9,3 0,9")],
+    "bounds": [[(-FAR, -FAR, 1), (FAR, -FAR, 1), (FAR, FAR, 1), (1, 1, FINE)],
+               [(FAR, -FAR + 1, FINE - 1), (FAR - 1, FAR, FINE), (-FAR, 3, 7)]],
+}
+# Forms of several parts: within one another, beside, one seen below another, touching at corners; narrow ones.
+PARTS = {
+    "within and within": [SQUARE, dots("1,1 3,1 3,3 1,3"), dots("3/2,3/2 5/2,3/2 5/2,5/2 3/2,5/2")],
+    "two beside": [dots("0,0 1,0 1,1 0,1"), dots("3,1 4,0 4,2")],
+    "two within": [dots("0,0 9,0 9,9 0,9"), dots("2,2 4,2 3,3"), dots("5,6 7,5 7,7")],
+    "three above one another within": [dots("0,0 9,0 9,9 0,9"), dots("3,1 6,1 5,2"), dots("3,3 6,3 5,4"),
+                                       dots("4,6 6,6 5,8")],
+    "three above one another": [dots("0,0 3,0 3,1"), dots("1,2 3,2 3,3"), dots("2,4 5,4 5,5")],
+    "one above the corner of another": [dots("0,0 2,0 1,1"), dots("1,2 3,2 2,3"), dots("2,5 3,4 3,6")],
+    "one above an upright side": [dots("0,0 2,0 2,2"), dots("2,3 4,3 4,4"), dots("-1,4 0,3 0,5")],
+    "within and touching the rim": [dots("0,0 8,0 8,8 0,8"), dots("0,0 3,1 1,3"), dots("8,4 6,5 6,3")],
+    "a chain of corners": [dots("0,0 2,1 1,2"), dots("2,1 4,0 4,2"), dots("4,2 6,4 3,4"), dots("1,2 3,4 1,5")],
+    "a chain shut within": [dots("-2,-2 9,-2 9,9 -2,9"), dots("0,0 4,0 4,1 0,1"), dots("4,1 5,1 5,5 4,5"),
+                            dots("4,5 4,6 0,6 0,5")],
+    "comb": [dots("0,0 9,0 9,6 7,6 7,1 5,1 5,6 3,6 3,1 1,1 1,6 0,6")],
+    "coil": [dots("0,0 9,0 9,9 1,9 1,2 7,2 7,7 3,7 3,4 4,4 4,6 6,6"), dots("2,1 3,1 3,3/2")],
+    "sliver": [dots("0,0 1000,1 2000,0 1000,2"), dots("1000,3/2 1001,5/4 1002,3/2")],
+    "uprights": [dots("0,0 1,0 1,1 0,1"), dots("1,1 2,1 2,2 1,2"), dots("2,0 3,0 3,1 2,1"), dots("0,3 0,9 1,6")],
+    "fan": [dots("0,0 4,-4 4,-2"), dots("0,0 4,1 4,3"), dots("0,0 0,4 -1,4"), dots("0,0 -4,1 -4,-2")],
+}
+
+
+def some_plans(seed, many):
+    """Plans of many forms: each form alone, forms over one another, rings by chance."""
+    chance = chance_of(seed)
+    forms = list(FORMS.values()) + list(PARTS.values())
+    plans = [plan_of([]), plan_of([[], [], []])] + [plan_of([rings]) for rings in forms]
+    plans.append(plan_of([PARTS["two within"], PARTS["comb"], PARTS["coil"]]))
+    plans.append(plan_of([FORMS["hole"], PARTS["three above one another"], FORMS["star"]]))
+    for number in range(many):
+        plans.append(plan_of([[grid_ring(chance, 5, 5) for ring in range(chance.randrange(1, 3))]
+                              for layer in range(chance.randrange(1, 4))]))
+    return plans
+
+
+def height(side, x):
+    (xa, ya), (xb, yb) = side
+    return ya + (x - xa) * (yb - ya) / (xb - xa)
+
+
+class Ground:
+    """The ground of a plan, parted into slabs at each x of a corner and joined again through the gaps between them.
+
+    It knows nothing of halves, rings and turns: it tells by names of its own which points lie in one face."""
+
+    def __init__(self, pieces):
+        self.sides = [(place(a), place(b)) for a, b, passes in pieces]
+        self.xs = sorted({end[0] for side in self.sides for end in side})
+        self.slabs = []
+        for mid in between_all(self.xs)[::2] if self.xs else [0]:
+            here = [side for side in self.sides if side[0][0] < mid < side[1][0]]
+            self.slabs.append(sorted(here, key=lambda side: height(side, mid)))
+        self.above = {}
+        for number, x in enumerate(self.xs):
+            for y in self.gaps(x):
+                one, other = self.root(self.node(number, x, y)), self.root(self.node(number + 1, x, y))
+                if one != other:
+                    self.above[one] = other
+
+    def gaps(self, x):
+        met = [side for side in self.sides if side[0][0] <= x <= side[1][0]]
+        upright = [(side[0][1], side[1][1]) for side in met if side[0][0] == side[1][0]]
+        heights = [height(side, x) for side in met if side[0][0] != side[1][0]]
+        heights.extend([y for ends in upright for y in ends])
+        return [y for y in between_all(heights)[::2] if not any([low < y < high for low, high in upright])]
+
+    def node(self, slab, x, y):
+        return (slab, len([side for side in self.slabs[slab] if height(side, x) < y]))
+
+    def root(self, node):
+        while node in self.above:
+            node = self.above[node]
+        return node
+
+    def outer(self):
+        return self.root((0, 0))
+
+    def is_ground(self, p):
+        return not any([is_on(p, at(*a), at(*b)) for a, b in self.sides])
+
+    def face(self, p):
+        """The face of a point of ground."""
+        x, y = place(p)
+        return self.root(self.node(bisect.bisect_right(self.xs, x), x, y))
+
+    def left(self, half):
+        """The face at the left of a half."""
+        (xa, ya), (xb, yb) = side = self.sides[half // 2]
+        if xa == xb:
+            return self.root(self.node(self.xs.index(xa) + half % 2, xa, (ya + yb) / 2))
+        slab = self.xs.index(xa) + 1
+        return self.root((slab, self.slabs[slab].index(side) + 1 - half % 2))
+
+
+def direction(p, q):
+    """A key for halves from p to q: straight down comes last, ahead of it who turns to the left from there."""
+    (xp, yp), (xq, yq) = place(p), place(q)
+    if xp == xq:
+        return (1 if yq > yp else 3, 0)
+    return (0 if xq > xp else 2, (yq - yp) / (xq - xp))
+
+
+def ends_by(plan):
+    """The start and the end of each half."""
+    return [ends for a, b, passes in plan[1] for ends in ((a, b), (b, a))]
+
+
+def halves_by(plan, p):
+    ends = ends_by(plan)
+    return sorted([h for h in range(len(ends)) if ends[h][0] == p], key=lambda h: direction(*ends[h]))
+
+
+def corners_by(plan):
+    return [at(*spot) for spot in sorted({place(end) for piece in plan[1] for end in piece[:2]})]

@@ -1,36 +1,17 @@
-"""What holds of all layers: the plan shows their rounds, and hangs on these alone."""
+"""What holds of all layers: the plan shows their rounds, and hangs on these alone; its faces and their rings."""
 
 import unittest
+from fractions import Fraction
 
+from plymap.faces import Faces
 from plymap.layers import layer_of, rounds_about
+from plymap.net import Net
+from plymap.own import own_point, rounds_of
 from plymap.plans import is_plan, laid_over, plan_of, rounds_under
-from tests.helper import (at, chance_of, dots, faults_of, grid_ring, is_on, place, ring_sides, samples, some_point,
-                          star, winding)
-
-FAR = 10 ** 12
-FINE = 10 ** 6
-SQUARE = dots("0,0 4,0 4,4 0,4")
-FORMS = {
-    "square": [SQUARE],
-    "turned about": [SQUARE[::-1]],
-    "twice round": [SQUARE + SQUARE],
-    "bow": [dots("0,0 2,2 2,0 0,2")],
-    "there and back": [dots("0,0 3,1 6,2")],
-    "spike": [dots("0,0 4,0 4,4 7,7 4,4 0,4")],
-    "spike within": [dots("0,0 4,0 4,4 2,2 4,4 0,4")],
-    "hole": [SQUARE, dots("1,1 1,3 3,3 3,1")],
-    "within": [SQUARE, dots("1,1 3,1 3,3 1,3")],
-    "side by side": [SQUARE, dots("4,0 8,0 8,4 4,4")],
-    "partly side by side": [SQUARE, dots("4,1 8,1 8,3 4,3")],
-    "corner on a side": [SQUARE, dots("4,2 6,1 6,3")],
-    "corner on a corner": [SQUARE, dots("4,4 6,4 6,6")],
-    "own corner again": [dots("0,0 2,0 1,1 2,2 0,2 1,1")],
-    "star": [star((0, 0), 1, 1, 5)],
-    "many through one point": [dots("-2,-2 2,2 2,-2 -2,2"), dots("0,-3 0,3 3,0 -3,0")],
-    "overlap on a slant": [dots("0,0 6,2 0,6"), dots("3,1 9,3 0,9")],
-    "bounds": [[(-FAR, -FAR, 1), (FAR, -FAR, 1), (FAR, FAR, 1), (1, 1, FINE)],
-               [(FAR, -FAR + 1, FINE - 1), (FAR - 1, FAR, FINE), (-FAR, 3, 7)]],
-}
+from plymap.rings import row_of
+from plymap.turns import round_sum
+from tests.helper import (FORMS, PARTS, SQUARE, Ground, as_fraction, at, chance_of, dots, faults_of, grid_ring, is_on,
+                          place, ring_sides, samples, some_point, winding)
 
 
 def begun_elsewhere(chance, rings):
@@ -150,3 +131,64 @@ class Whole(unittest.TestCase):
             at_once = plan_of([forms[k], forms[k - 1], forms[k - 7]])
             self.assertEqual(laid_over(laid_over(one, other), third), at_once)
             self.assertEqual(laid_over(one, laid_over(other, third)), at_once)
+
+
+def some_layers(seed, many):
+    """Lists of layers: each form alone, forms over one another, rings by chance."""
+    chance = chance_of(seed)
+    forms = list(FORMS.values()) + list(PARTS.values())
+    found = [[rings] for rings in forms]
+    found.extend([[forms[k], forms[k - 3], forms[k - 8]] for k in range(0, len(forms), 3)])
+    for number in range(many):
+        found.append([[grid_ring(chance, 5, 5) for ring in range(number % 2 + 1)] for layer in range(number % 3 + 1)])
+    return found
+
+
+class Parted(unittest.TestCase):
+    def test_left_of_a_piece_and_right_of_it(self):
+        for layers in some_layers(55, 9):
+            plan = plan_of(layers)
+            faces = Faces(Net(plan))
+            rounds = [rounds_of(faces, f) for f in range(faces.many())]
+            for k, (a, b, passes) in enumerate(plan[1]):
+                left, right = faces.face_at(2 * k), faces.face_at(2 * k + 1)
+                self.assertNotEqual(left, right)
+                self.assertEqual(tuple([one - other for one, other in zip(rounds[left], rounds[right])]), passes)
+
+    def test_rounds_of_a_face_are_those_of_its_layers(self):
+        for layers in some_layers(56, 9):
+            faces = Faces(Net(plan_of(layers)))
+            for f in range(faces.many()):
+                p = own_point(faces, f)
+                self.assertEqual(rounds_of(faces, f), tuple([winding(rings, p) for rings in layers]))
+
+    def test_rings_of_a_face_about_each_own_point(self):
+        for layers in some_layers(57, 6):
+            faces = Faces(Net(plan_of(layers)))
+            points = [own_point(faces, f) for f in range(faces.many())]
+            for f in range(faces.many())[::1 + faces.many() // 40]:
+                rows = [row_of(faces.net(), ring) for ring in faces.rings_at(f)]
+                for g, p in list(enumerate(points))[::1 + faces.many() // 40]:
+                    self.assertEqual(winding(rows, p), int(f == g) if f > 0 else int(f == g) - 1)
+
+    def test_rings_of_a_face_about_points_of_all_sorts(self):
+        for layers in some_layers(58, 3):
+            plan = plan_of(layers)
+            faces, ground = Faces(Net(plan)), Ground(plan[1])
+            rows = [[row_of(faces.net(), ring) for ring in faces.rings_at(f)] for f in range(faces.many())]
+            names = [ground.left(faces.rings_at(f)[0][0]) if rows[f] else ground.outer() for f in range(faces.many())]
+            points = samples([piece[:2] for piece in plan[1]], 1 + len(plan[1]) // 9)[::1 + len(plan[1]) // 9]
+            for p in [p for p in points if ground.is_ground(p)]:
+                here = names.index(ground.face(p))
+                told = [rounds_about(row, p) for row in rows]
+                self.assertEqual(told[0], -1 if here else 0)
+                self.assertEqual(told[1:], [int(f == here) for f in range(1, faces.many())])
+
+    def test_rounds_times_areas(self):
+        for layers in some_layers(59, 9):
+            faces = Faces(Net(plan_of(layers)))
+            sums = [Fraction(0)] * len(layers)
+            for f in range(1, faces.many()):
+                area = as_fraction(faces.area_at(f))
+                sums = [number + rounds * area for number, rounds in zip(sums, rounds_of(faces, f))]
+            self.assertEqual(sums, [sum([as_fraction(round_sum(ring)) for ring in rings]) / 2 for rings in layers])
