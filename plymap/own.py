@@ -2,17 +2,14 @@
 
 from plymap.meets import ends_in_order
 from plymap.plans import rounds_under
-from plymap.points import in_order, is_left_of, middle_of, point_by
+from plymap.points import in_order, is_left_of, middle_of, shifted
 from plymap.rings import halves_of
 from plymap.turns import point_over
 
 
 def outer_point(net):
     corners = net.corners()
-    if not corners:
-        return (0, 0, 1)
-    p = corners[0]
-    return point_by(p[0] - p[2], p[1], p[2])
+    return shifted(corners[0], -1, 0) if corners else (0, 0, 1)
 
 
 # Where pieces with one of these halves pass straight above or below m, the lowest point first.

@@ -56,3 +56,7 @@ def ranks_of(points):
 
 def middle_of(p, q):
     return point_by(p[0] * q[2] + q[0] * p[2], p[1] * q[2] + q[1] * p[2], 2 * p[2] * q[2])
+
+
+def shifted(p, right, up):
+    return point_by(p[0] + right * p[2], p[1] + up * p[2], p[2])

@@ -308,7 +308,8 @@ PARTS = {
     "a chain shut within": [dots("-2,-2 9,-2 9,9 -2,9"), dots("0,0 4,0 4,1 0,1"), dots("4,1 5,1 5,5 4,5"),
                             dots("4,5 4,6 0,6 0,5")],
     "comb": [dots("0,0 9,0 9,6 7,6 7,1 5,1 5,6 3,6 3,1 1,1 1,6 0,6")],
-    "coil": [dots("0,0 9,0 9,9 1,9 1,2 7,2 7,7 3,7 3,4 4,4 4,6 6,6"), dots("2,1 3,1 3,3/2")],
+    "coil": [dots("0,0 10,0 10,10 0,10 0,2 8,2 8,8 2,8 2,4 6,4 6,6 5,6 5,5 3,5 3,7 7,7 7,3 1,3 1,9 9,9 9,1 0,1"),
+             dots("2,1/4 3,1/4 3,1/2"), dots("2,5/4 3,5/4 3,3/2")],
     "sliver": [dots("0,0 1000,1 2000,0 1000,2"), dots("1000,3/2 1001,5/4 1002,3/2")],
     "uprights": [dots("0,0 1,0 1,1 0,1"), dots("1,1 2,1 2,2 1,2"), dots("2,0 3,0 3,1 2,1"), dots("0,3 0,9 1,6")],
     "fan": [dots("0,0 4,-4 4,-2"), dots("0,0 4,1 4,3"), dots("0,0 0,4 -1,4"), dots("0,0 -4,1 -4,-2")],
@@ -407,3 +408,40 @@ def halves_by(plan, p):
 
 def corners_by(plan):
     return [at(*spot) for spot in sorted({place(end) for piece in plan[1] for end in piece[:2]})]
+
+
+def points_about(chance, plan, many):
+    """Points near corners, level with them, straight above and below them, on pieces, and far away."""
+    spots = [place(p) for p in corners_by(plan)] or [(Fraction(0), Fraction(0))]
+    aside = [Fraction(number) for number in (0, 0, 0, 1, -1, 2, -2, 50, "1/2", "-1/2", "1/3", "-1/7", "1/1000")]
+    found = []
+    for number in range(many):
+        x, y = chance.choice(spots)[0], chance.choice(spots)[1]
+        found.append(at(x + chance.choice(aside), y + chance.choice(aside)))
+    for a, b, passes in chance.sample(plan[1], min(3, len(plan[1]))):
+        (xa, ya), (xb, yb) = place(a), place(b)
+        found.append(at((xa + xb) / 2, (ya + yb) / 2))
+        found.append(at((xa + xb) / 2 + chance.choice(aside), (ya + yb) / 2 + chance.choice(aside)))
+    return found
+
+
+def faults_between(plan, ground, p, q, told):
+    """What of the words on what lies between two points of ground does not hold of the answer."""
+    kind, row = told
+    faults = []
+    if kind != ("way" if ground.face(p) == ground.face(q) else "ring"):
+        faults.append("kind")
+    if kind == "way":
+        if not row or row[0] != p or row[-1] != q:
+            faults.append("ends")
+        for u, v in zip(row, row[1:]):
+            if u == v:
+                faults.append(("alike", u))
+            elif any([shared_by(u, v, a, b) for a, b, passes in plan[1]]):
+                faults.append(("met", u, v))
+        return faults
+    pieces = {frozenset(piece[:2]) for piece in plan[1]}
+    faults.extend([("no piece", u, v) for u, v in ring_sides([row]) if frozenset((u, v)) not in pieces])
+    if rounds_by_rule([row], p) == rounds_by_rule([row], q) or winding([row], p) == winding([row], q):
+        faults.append("rounds")
+    return faults

@@ -222,3 +222,20 @@ class Inside(unittest.TestCase):
         for name, node in nodes_of(ast.Call):
             self.assertNotIn(called(node), ("set", "frozenset", "chr"), f"L24, L27 {name} {node.lineno}")
         self.assertEqual(nodes_of(ast.Set), [], "L24")
+
+    def test_values_are_given_through_a_local_name(self):
+        for name, node in nodes_of(ast.Attribute):
+            if isinstance(node.ctx, ast.Store):
+                self.assertIsInstance(node.value, ast.Name, f"L18 {name} {node.lineno}")
+                self.assertNotIn(node.value.id, top_names(TREES[name]), f"L18 {name} {node.lineno}")
+
+    def test_what_a_loop_walks_is_not_changed_in_it(self):
+        changing = "append clear extend insert pop remove reverse setdefault update".split()
+        for name, node in nodes_of(ast.For):
+            walked = {part.id for part in ast.walk(node.iter) if isinstance(part, ast.Name)}
+            for part in [part for row in node.body for part in ast.walk(row)]:
+                here = f"L23 {name} {node.lineno}"
+                if called(part) in changing and isinstance(part.func, ast.Attribute):
+                    self.assertNotIn(getattr(part.func.value, "id", None), walked, here)
+                if isinstance(part, ast.Subscript) and isinstance(part.ctx, ast.Store):
+                    self.assertNotIn(getattr(part.value, "id", None), walked, here)

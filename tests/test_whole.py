@@ -7,11 +7,13 @@ from plymap.faces import Faces
 from plymap.layers import layer_of, rounds_about
 from plymap.net import Net
 from plymap.own import own_point, rounds_of
+from plymap.places import place_of
 from plymap.plans import is_plan, laid_over, plan_of, rounds_under
 from plymap.rings import row_of
 from plymap.turns import round_sum
-from tests.helper import (FORMS, PARTS, SQUARE, Ground, as_fraction, at, chance_of, dots, faults_of, grid_ring, is_on,
-                          place, ring_sides, samples, some_point, winding)
+from plymap.ways import between
+from tests.helper import (FORMS, PARTS, SQUARE, Ground, as_fraction, at, chance_of, dots, faults_between, faults_of,
+                          grid_ring, is_on, place, points_about, ring_sides, samples, some_point, winding)
 
 
 def begun_elsewhere(chance, rings):
@@ -192,3 +194,19 @@ class Parted(unittest.TestCase):
                 area = as_fraction(faces.area_at(f))
                 sums = [number + rounds * area for number, rounds in zip(sums, rounds_of(faces, f))]
             self.assertEqual(sums, [sum([as_fraction(round_sum(ring)) for ring in rings]) / 2 for rings in layers])
+
+    def test_way_or_ring(self):
+        chance = chance_of(60)
+        kinds = {"way": 0, "ring": 0}
+        for layers in some_layers(61, 9):
+            plan = plan_of(layers)
+            faces, ground = Faces(Net(plan)), Ground(plan[1])
+            points = [p for p in points_about(chance, plan, 12) if ground.is_ground(p)]
+            points.extend([own_point(faces, f) for f in range(faces.many())[::1 + faces.many() // 9]])
+            mixed = chance.sample(points, len(points))
+            for p, q in zip(points, mixed):
+                told = between(faces, p, q)
+                self.assertEqual(faults_between(plan, ground, p, q, told), [])
+                self.assertEqual(told[0] == "way", place_of(faces, p) == place_of(faces, q))
+                kinds[told[0]] += 1
+        self.assertGreater(min(kinds.values()), 100)
