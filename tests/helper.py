@@ -4,6 +4,7 @@ import bisect
 import random
 from fractions import Fraction
 
+from plymap.errors import PlyError
 from plymap.plans import plan_of
 from plymap.points import point_by, point_of
 
@@ -445,3 +446,68 @@ def faults_between(plan, ground, p, q, told):
     if rounds_by_rule([row], p) == rounds_by_rule([row], q) or winding([row], p) == winding([row], q):
         faults.append("rounds")
     return faults
+
+
+def refusal(call, *things):
+    """What a call is refused with: the name of the class and its fields; None where it is not refused."""
+    try:
+        call(*things)
+    except PlyError as error:
+        return (type(error).__name__,) + tuple(vars(error).values())
+    return None
+
+
+def box(left, low, right, high):
+    """A ring once to the left round a box."""
+    return [at(left, low), at(right, low), at(right, high), at(left, high)]
+
+
+def half_sum(rings):
+    """Half the round sum of rings, by the words of the rule."""
+    total = Fraction(0)
+    for p, q in ring_sides(rings):
+        (xp, yp), (xq, yq) = place(p), place(q)
+        total += xp * yq - xq * yp
+    return total / 2
+
+
+def all_told(atlas):
+    """Whatever an atlas tells."""
+    numbers = atlas.numbers()
+    return (atlas.names(), numbers, [atlas.rows_at(n) for n in numbers], [atlas.sides_at(n) for n in numbers],
+            [atlas.paper(n) for n in numbers], [atlas.area_at(n) for n in numbers[1:]], atlas.plan())
+
+
+def faces_told(atlas):
+    """The faces of an atlas but for their numbers: from the rows of each to its paper and its area."""
+    found = {}
+    for number in atlas.numbers():
+        rows = tuple([tuple(row) for row in atlas.rows_at(number)])
+        found[rows] = (atlas.paper(number), atlas.area_at(number) if number > 0 else None)
+    return found
+
+
+def some_wish(chance, names, depth):
+    kind = chance.choice(["in", "round", "least"] + ["no", "both", "any"] * (2 if depth > 1 else 0))
+    if kind == "in":
+        return (kind, chance.choice(names))
+    if kind == "round":
+        return (kind, chance.choice(names), chance.choice([-2, -1, 0, 1, 1, 2]))
+    if kind == "least":
+        return (kind, chance.randrange(4))
+    if kind == "no":
+        return (kind, some_wish(chance, names, depth - 1))
+    return (kind, some_wish(chance, names, depth - 1), some_wish(chance, names, depth - 1))
+
+
+def wish_holds(wish, rounds):
+    """By the words of the rule; rounds is a dict."""
+    kind = wish[0]
+    if kind == "in":
+        return wish[1] in rounds and rounds[wish[1]] != 0
+    if kind == "round":
+        return (rounds[wish[1]] if wish[1] in rounds else 0) == wish[2]
+    if kind == "least":
+        return sum([1 for name in rounds if rounds[name] != 0]) >= wish[1]
+    parts = [wish_holds(part, rounds) for part in wish[1:]]
+    return {"no": not parts[0], "both": all(parts), "any": any(parts)}[kind]

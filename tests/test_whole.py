@@ -1,8 +1,11 @@
-"""What holds of all layers: the plan shows their rounds, and hangs on these alone; its faces and their rings."""
+"""What holds of all layers: the plan shows their rounds, and hangs on these alone; its faces and their rings; ways
+and what they cross."""
 
 import unittest
 from fractions import Fraction
 
+from plymap.atlas import Atlas
+from plymap.crossings import fewest
 from plymap.faces import Faces
 from plymap.layers import layer_of, rounds_about
 from plymap.net import Net
@@ -13,7 +16,8 @@ from plymap.rings import row_of
 from plymap.turns import round_sum
 from plymap.ways import between
 from tests.helper import (FORMS, PARTS, SQUARE, Ground, as_fraction, at, chance_of, dots, faults_between, faults_of,
-                          grid_ring, is_on, place, points_about, ring_sides, samples, some_point, winding)
+                          grid_ring, is_on, place, points_about, ring_sides, samples, shared_by, some_point,
+                          winding)
 
 
 def begun_elsewhere(chance, rings):
@@ -210,3 +214,43 @@ class Parted(unittest.TestCase):
                 self.assertEqual(told[0] == "way", place_of(faces, p) == place_of(faces, q))
                 kinds[told[0]] += 1
         self.assertGreater(min(kinds.values()), 100)
+
+
+def crossed_by(pieces, row):
+    """How many pieces a row of points crosses, None where it meets a corner, has its own point on a piece or goes
+    along one."""
+    number = 0
+    for u, v in zip(row, row[1:]):
+        for a, b, passes in pieces:
+            shared = shared_by(u, v, a, b)
+            if len(shared) > 1 or any([z in (a, b, u, v) for z in shared]):
+                return None
+            number += len(shared)
+    return number
+
+
+class Crossed(unittest.TestCase):
+    def test_no_way_crosses_fewer(self):
+        chance = chance_of(62)
+        seen = {}
+        for number in range(10):
+            atlas = Atlas()
+            for name in "abc":
+                atlas.put(name, [grid_ring(chance, 6, 6)])
+            pieces = atlas.plan()[1]
+            for asking in range(6):
+                row = [some_point(chance) for step in range(2)]
+                if "face" != atlas.place_at(row[0])[0] or "face" != atlas.place_at(row[1])[0] or row[0] == row[1]:
+                    continue
+                least = fewest(atlas, row[0], row[1])[0]
+                for drawn in range(12):
+                    between_them = [some_point(chance) for step in range(drawn % 3)]
+                    way = row[:1] + between_them + row[1:]
+                    if any([p == q for p, q in zip(way, way[1:])]):
+                        continue
+                    told = crossed_by(pieces, way)
+                    if told is not None:
+                        self.assertGreaterEqual(told, least)
+                        seen[told - least] = seen.get(told - least, 0) + 1
+        self.assertGreater(seen[0], 20)
+        self.assertGreater(len(seen), 5)
