@@ -1,6 +1,7 @@
 """What the tests share: odd things to hand in, and the plane reckoned once more with Python's own fractions."""
 
 import bisect
+import copy
 import random
 from fractions import Fraction
 
@@ -472,10 +473,11 @@ def half_sum(rings):
 
 
 def all_told(atlas):
-    """Whatever an atlas tells."""
+    """Whatever an atlas tells, as a copy that nothing changes."""
     numbers = atlas.numbers()
-    return (atlas.names(), numbers, [atlas.rows_at(n) for n in numbers], [atlas.sides_at(n) for n in numbers],
-            [atlas.paper(n) for n in numbers], [atlas.area_at(n) for n in numbers[1:]], atlas.plan())
+    return copy.deepcopy((atlas.names(), numbers, [atlas.rows_at(n) for n in numbers],
+                          [atlas.sides_at(n) for n in numbers], [atlas.paper(n) for n in numbers],
+                          [atlas.area_at(n) for n in numbers[1:]], atlas.plan()))
 
 
 def faces_told(atlas):
@@ -511,3 +513,60 @@ def wish_holds(wish, rounds):
         return sum([1 for name in rounds if rounds[name] != 0]) >= wish[1]
     parts = [wish_holds(part, rounds) for part in wish[1:]]
     return {"no": not parts[0], "both": all(parts), "any": any(parts)}[kind]
+
+
+def cell_by(p, size):
+    """The cell of a point, by its bounds."""
+    wide = as_fraction(size)
+    return tuple([(number / wide + Fraction(1, 2)).__floor__() for number in place(p)])
+
+
+def stations(p, q, cells, size):
+    """Points of the side from p to q, in their row: its ends, where it meets the bounds of cells, and one between each
+    two of these. Between two of them nothing changes."""
+    (xp, yp), (xq, yq) = place(p), place(q)
+    found = {Fraction(0), Fraction(1)}
+    wide = as_fraction(size)
+    for i, j in cells:
+        for k, start, end in ((i, xp, xq), (j, yp, yq)):
+            for bound in ((k - Fraction(1, 2)) * wide, (k + Fraction(1, 2)) * wide):
+                if start != end and 0 < (bound - start) / (end - start) < 1:
+                    found.add((bound - start) / (end - start))
+    row = sorted(found)
+    row = sorted(row + [(one + other) / 2 for one, other in zip(row, row[1:])])
+    return [at(xp + t * (xq - xp), yp + t * (yq - yp)) for t in row]
+
+
+def thread_by(p, q, cells, size):
+    """The thread of a side, by the cells of its stations."""
+    thread = []
+    for z in stations(p, q, cells, size):
+        cell = cell_by(z, size)
+        if cell in cells and cell not in thread:
+            thread.append(cell)
+    return thread
+
+
+def hot_by(plan, size):
+    return sorted({cell_by(end, size) for piece in plan[1] for end in piece[:2]})
+
+
+def middle_by(cell, size):
+    wide = as_fraction(size)
+    return at(cell[0] * wide, cell[1] * wide)
+
+
+def is_near(plan, p, size):
+    """Whether a piece has a point whose x and whose y both are at most half a size away from those of p."""
+    (x, y), half = place(p), as_fraction(size) / 2
+    for a, b, passes in plan[1]:
+        low, high = Fraction(0), Fraction(1)
+        for start, end, middle in zip(place(a), place(b), (x, y)):
+            if start == end:
+                low = low if abs(start - middle) <= half else Fraction(2)
+            else:
+                bounds = sorted([(middle - half - start) / (end - start), (middle + half - start) / (end - start)])
+                low, high = max(low, bounds[0]), min(high, bounds[1])
+        if low <= high:
+            return True
+    return False

@@ -14,8 +14,9 @@ BAD_PLANS = [(0, []), (2, []), plan_of([[SQUARE], [SQUARE]]), plan_of([]), (1, (
              (1.0, []), (-1, []), (10 ** 300, []), (1, plan_of([[SQUARE]])[1][1:]), (1, plan_of([[SQUARE]])[1][::-1]),
              (1, [list(piece) for piece in plan_of([[SQUARE]])[1]]), (1, plan_of([[], [SQUARE]])[1]),
              plan_of([[SQUARE]])[1], (1, [(at(0, 0), at(1, 0), (1,))]), ("1", []), (1, [Sore()]), (1, Sore())]
-BAD_RINGS = [([], (0, 0)), ([SQUARE] * 5, (0, 0)), ((SQUARE,), (0, 0)), ([[]], (0, 0)), ([SQUARE, dots("0,0 1,1")], (1, 0)),
-             ([SQUARE, SQUARE[:2] + SQUARE[1:]], (1, 2)), ([SQUARE + SQUARE[:1]], (0, 4)), ([SQUARE * 4], (0, 0)),
+BAD_RINGS = [([], (0, 0)), ([SQUARE] * 5, (0, 0)), ((SQUARE,), (0, 0)), ([[]], (0, 0)),
+             ([SQUARE, dots("0,0 1,1")], (1, 0)), ([SQUARE, SQUARE[:2] + SQUARE[1:]], (1, 2)),
+             ([SQUARE + SQUARE[:1]], (0, 4)), ([SQUARE * 4], (0, 0)),
              ([SQUARE[:3] + [(2, 2, 2)]], (0, 3)), ([[(10 ** 12 + 1, 0, 1)] + SQUARE], (0, 0)), ([Sore()], (0, 0))]
 
 
@@ -412,7 +413,8 @@ class Asked(Case):
                     self.assertEqual(as_fraction(atlas.area_at(number)), half_sum(atlas.rows_at(number)))
 
     def test_papers_are_the_rounds_of_the_rings(self):
-        layers = {"a": FORMS["bow"], "b": FORMS["hole"], "cc": FORMS["own corner again"], "d": [grid_ring(chance_of(1))]}
+        layers = {"a": FORMS["bow"], "b": FORMS["hole"], "cc": FORMS["own corner again"],
+                  "d": [grid_ring(chance_of(1))]}
         atlas = Atlas()
         for name, rings in layers.items():
             atlas.put(name, rings)

@@ -206,6 +206,20 @@ class Inside(unittest.TestCase):
             if isinstance(node.func, ast.Attribute):
                 self.assertIn(node.func.attr, METHODS + own, f"L25 {name} {node.lineno}")
 
+    def test_own_methods_and_values_are_not_called_like_those_of_python(self):
+        taken = {word for kind in (str, int, list, dict, set, bytes, tuple) for word in dir(kind)}
+        free = METHODS + UNDERSCORED + ["add", "discard", "title"]
+        own = [part.name for name, node in nodes_of(ast.ClassDef) for part in node.body
+               if isinstance(part, ast.FunctionDef)]
+        kept = [node.attr for name, node in nodes_of(ast.Attribute) if isinstance(node.ctx, ast.Store)]
+        self.assertEqual([word for word in own + kept if word in taken and word not in free], [], "L26")
+
+    def test_lists_and_dicts_of_the_top_hold_no_others(self):
+        for name, tree in TREES.items():
+            for node in [node for node in tree.body if isinstance(node, ast.Assign)]:
+                inside = [part for part in ast.walk(node.value) if isinstance(part, (ast.List, ast.Dict))]
+                self.assertLessEqual(len(inside), 1, f"L15 {name} {node.lineno}")
+
     def test_walked_on_the_spot(self):
         for name, tree in TREES.items():
             good = []
